@@ -1,0 +1,1 @@
+"""Ringleast: cyclic words, invertible substitutions and shortest representatives."""

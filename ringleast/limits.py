@@ -1,0 +1,12 @@
+"""The limits that the package keeps to."""
+
+MAX_RANK = 4
+MAX_WORD = 100
+MAX_TOTAL = 400
+MAX_RINGS = 4
+MAX_LENGTH = 60
+MAX_LEVEL_RANK = 3
+MAX_LEVEL_LENGTH = 24
+MAX_LEVEL = 40
+MAX_CENSUS_TWO = 6
+MAX_CENSUS_THREE = 5
