@@ -6,8 +6,12 @@ import inspect
 import unittest
 
 from ringleast import errors
-from ringleast.words import inverse, is_word, letters, product, reduce_text
+from ringleast.flows import certificate, check_certificate, least_cut, paths
+from ringleast.graphs import change, components, cut, degree, edges
 from ringleast.rings import is_ring, is_row, ring_of
+from ringleast.steps import factor, is_step, moves, step_row, substitution_of, total, undo_step, walk
+from ringleast.substitutions import apply, compose, image, is_automorphism, undo
+from ringleast.words import inverse, is_word, letters, product, reduce_text
 
 PARAMETERS = {
     "words": {
@@ -22,6 +26,36 @@ PARAMETERS = {
         "is_row": ["rank", "thing"],
         "ring_of": ["rank", "word"],
     },
+    "substitutions": {
+        "image": ["rank", "substitution", "word"],
+        "compose": ["rank", "outer", "inner"],
+        "is_automorphism": ["rank", "substitution"],
+        "undo": ["rank", "substitution"],
+        "apply": ["rank", "substitution", "row"],
+    },
+    "steps": {
+        "is_step": ["rank", "thing"],
+        "moves": ["rank"],
+        "undo_step": ["rank", "step"],
+        "substitution_of": ["rank", "step"],
+        "total": ["rank", "route"],
+        "step_row": ["rank", "row", "step"],
+        "walk": ["rank", "row", "route"],
+        "factor": ["rank", "substitution"],
+    },
+    "graphs": {
+        "edges": ["rank", "row"],
+        "degree": ["rank", "row", "letter"],
+        "cut": ["rank", "row", "side"],
+        "change": ["rank", "row", "step"],
+        "components": ["rank", "row"],
+    },
+    "flows": {
+        "least_cut": ["rank", "row", "letter"],
+        "paths": ["rank", "row", "letter"],
+        "certificate": ["rank", "row"],
+        "check_certificate": ["rank", "row", "thing"],
+    },
 }
 
 EXAMPLES = [
@@ -35,6 +69,33 @@ EXAMPLES = [
     ("rings", 'is_row(2, ("ab", "a"))', "True"),
     ("rings", 'ring_of(2, "bbaB")', "'ab'"),
     ("rings", 'ring_of(2, "bA")', "'Ab'"),
+    ("substitutions", 'image(2, ("ab", "b"), "aB")', "'a'"),
+    ("substitutions", 'compose(2, ("ab", "b"), ("a", "ba"))', "('ab', 'bab')"),
+    ("substitutions", 'is_automorphism(2, ("aa", "b"))', "False"),
+    ("substitutions", 'undo(2, ("ab", "b"))', "('aB', 'b')"),
+    ("substitutions", 'undo(2, ("aa", "b"))', "raises NotInvertible"),
+    ("substitutions", 'apply(2, ("ab", "b"), ("aB",))', "('a',)"),
+    ("steps", 'is_step(2, ("move", "a", "aA"))', "False"),
+    (
+        "steps", 'moves(2)[:4]',
+        "[('move', 'a', 'a'), ('move', 'a', 'ab'), ('move', 'a', 'abB'), ('move', 'a', 'aB')]",
+    ),
+    ("steps", 'undo_step(2, ("move", "a", "ab"))', "('move', 'A', 'Ab')"),
+    ("steps", 'substitution_of(2, ("move", "a", "ab"))', "('a', 'ba')"),
+    ("steps", 'total(2, (("move", "a", "ab"), ("relabel", "bA")))', "('b', 'Ab')"),
+    ("steps", 'step_row(2, ("ab",), ("move", "A", "Ab"))', "('b',)"),
+    ("steps", 'walk(2, ("aab",), [("move", "A", "Ab"), ("move", "A", "Ab")])', "('b',)"),
+    ("steps", 'total(2, factor(2, ("ab", "b")))', "('ab', 'b')"),
+    ("graphs", 'edges(2, ("ab",))', "(((0, 0), 'a', 'B'), ((0, 1), 'b', 'A'))"),
+    ("graphs", 'degree(2, ("aab",), "A")', "2"),
+    ("graphs", 'cut(2, ("ab",), "ab")', "2"),
+    ("graphs", 'change(2, ("ab",), ("move", "A", "Ab"))', "-1"),
+    ("graphs", 'components(2, ("ab",))', "('aB', 'Ab')"),
+    ("flows", 'least_cut(2, ("ab",), "a")', "(0, 'aB')"),
+    ("flows", 'len(paths(2, ("abAB",), "a"))', "2"),
+    ("flows", 'certificate(2, ("ab",))', "raises NotMinimal"),
+    ("flows", 'check_certificate(2, ("aa",), ((((0, 0),), ((0, 1),)), ()))', "True"),
+    ("flows", 'check_certificate(2, ("aa",), ((((0, 0),), ((0, 0),)), ()))', "False"),
 ]
 
 CALLS = [
@@ -46,6 +107,28 @@ CALLS = [
     (is_ring, {"rank": 2, "thing": "ab"}, True),
     (is_row, {"rank": 2, "thing": ("ab", "a")}, True),
     (ring_of, {"rank": 2, "word": "bbaB"}, "ab"),
+    (image, {"rank": 2, "substitution": ("ab", "b"), "word": "aB"}, "a"),
+    (compose, {"rank": 2, "outer": ("ab", "b"), "inner": ("a", "ba")}, ("ab", "bab")),
+    (is_automorphism, {"rank": 2, "substitution": ("ab", "b")}, True),
+    (undo, {"rank": 2, "substitution": ("ab", "b")}, ("aB", "b")),
+    (apply, {"rank": 2, "substitution": ("ab", "b"), "row": ("aB",)}, ("a",)),
+    (is_step, {"rank": 2, "thing": ("relabel", "bA")}, True),
+    (moves, {"rank": 3}, moves(3)),
+    (undo_step, {"rank": 2, "step": ("relabel", "bA")}, ("relabel", "Ba")),
+    (substitution_of, {"rank": 2, "step": ("move", "a", "abB")}, ("a", "Aba")),
+    (total, {"rank": 2, "route": [("move", "a", "ab"), ("relabel", "bA")]}, ("b", "Ab")),
+    (step_row, {"rank": 2, "row": ("ab",), "step": ("move", "A", "Ab")}, ("b",)),
+    (walk, {"rank": 2, "row": ("aab",), "route": (("move", "A", "Ab"), ("move", "A", "Ab"))}, ("b",)),
+    (factor, {"rank": 2, "substitution": ("ab", "bab")}, factor(2, ("ab", "bab"))),
+    (edges, {"rank": 2, "row": ("ab",)}, (((0, 0), "a", "B"), ((0, 1), "b", "A"))),
+    (degree, {"rank": 2, "row": ("aab",), "letter": "A"}, 2),
+    (cut, {"rank": 2, "row": ("ab",), "side": "ab"}, 2),
+    (change, {"rank": 2, "row": ("ab",), "step": ("move", "A", "Ab")}, -1),
+    (components, {"rank": 2, "row": ("ab",)}, ("aB", "Ab")),
+    (least_cut, {"rank": 2, "row": ("ab",), "letter": "a"}, (0, "aB")),
+    (paths, {"rank": 2, "row": ("abAB",), "letter": "a"}, paths(2, ("abAB",), "a")),
+    (certificate, {"rank": 2, "row": ("abAB",)}, certificate(2, ("abAB",))),
+    (check_certificate, {"rank": 2, "row": ("aa",), "thing": ((((0, 0),), ((0, 1),)), ())}, True),
 ]
 
 
@@ -60,8 +143,8 @@ class Interface(unittest.TestCase):
 
     def test_examples(self):
         for name, call, outcome in EXAMPLES:
-            names = {}
-            exec(f"from ringleast.{name} import {call[:call.index('(')]}", names)
+            module = importlib.import_module("ringleast." + name)
+            names = {function: getattr(module, function) for function in PARAMETERS[name]}
             if outcome.startswith("raises "):
                 with self.assertRaises(getattr(errors, outcome[len("raises "):])):
                     eval(call, names)
@@ -83,11 +166,21 @@ class Interface(unittest.TestCase):
                 self.assertIs(type(again), type(outcome))
 
     def test_arguments_are_not_modified(self):
-        for thing in (["ab", "a"], {"ab": ["a"]}, (["ab"],), [["a"], {"b": "c"}]):
+        things = [["ab", "a"], {"ab": ["a"]}, (["ab"],), [["a"], {"b": "c"}], ["move", "a", ["a"]], ([[[0, 0]]], [])]
+        for thing in things:
             before = copy.deepcopy(thing)
-            for function in (is_word, is_ring, is_row):
+            for function in (is_word, is_ring, is_row, is_step):
                 self.assertIs(function(2, thing), False)
                 self.assertEqual(thing, before)
+            self.assertIs(check_certificate(2, ("a",), thing), False)
+            self.assertEqual(thing, before)
+
+    def test_all_functions_are_called_by_name(self):
+        called = {function.__name__ for function, _, _ in CALLS}
+        self.assertEqual(called, {function for functions in PARAMETERS.values() for function in functions})
+        shown = " ".join(call for _, call, _ in EXAMPLES)
+        for function in called:
+            self.assertIn(function + "(", shown)
 
 
 if __name__ == "__main__":
