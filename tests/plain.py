@@ -59,6 +59,20 @@ def plain_total(rank, route):
     return images
 
 
+def undone_route(route):
+    """The steps that take everything back, from the words of the document for moves."""
+    back = []
+    for step in reversed(route):
+        if step[0] == "move":
+            back.append(("move", OPPOSITE[step[1]], step[2].replace(step[1], OPPOSITE[step[1]])))
+        else:
+            rank = len(step[1])
+            inverse = {OPPOSITE[y]: OPPOSITE[x] for x, y in zip(BASE[rank], step[1])}
+            inverse.update({y: x for x, y in zip(BASE[rank], step[1])})
+            back.append(("relabel", "".join(inverse[x] for x in BASE[rank])))
+    return tuple(back)
+
+
 @lru_cache(maxsize=None)
 def all_letter_sets(rank):
     return ["".join(chosen) for n in range(2 * rank + 1) for chosen in combinations(SETS[rank], n)]

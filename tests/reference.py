@@ -48,7 +48,9 @@ def rotations(word):
 def plain_ring(word):
     while len(word) > 1 and OPPOSITE[word[0]] == word[-1]:
         word = word[1:-1]
-    return sorted(rotations(word), key=word_key)[0]
+    places = [ORDER.index(letter) for letter in word]
+    start = min(range(len(word)), key=lambda k: places[k:] + places[:k])
+    return word[start:] + word[:start]
 
 
 def plain_is_ring(rank, text):

@@ -3,7 +3,10 @@
 import random
 from functools import lru_cache
 
-from plain import BASE, all_moves, all_relabelings, all_steps, plain_compose, plain_identity, plain_substitution
+from plain import (
+    BASE, all_moves, all_relabelings, all_steps, is_minimal_row, plain_compose, plain_identity, plain_row,
+    plain_substitution, row_size,
+)
 from reference import plain_inverse, plain_reduce, plain_ring, some_word
 
 # Substitutions that are no automorphisms.
@@ -23,6 +26,25 @@ NONE = {
         ("", "b", "c", "d"), ("a", "b", "c", ""), ("a", "b", "c", "c"), ("a", "b", "c", "C"), ("a", "b", "c", "dd"),
         ("a", "b", "cd", "cD"), ("ab", "bc", "cd", "da"), ("a", "babAB", "c", "d"), ("a", "b", "c", "cdcDC"),
         ("a" * 100, "b" * 100, "c" * 100, "d" * 100), ("a", "b", "c", "abcABC"), ("ab", "ba", "c", "d"),
+    ],
+}
+
+FEW_ROWS = [
+    ("a",), ("B",), ("aa",), ("ab",), ("abAB",), ("aabb",), ("aab", "b"), ("a", "A", "b", "B"), ("a" * 60,),
+    ("aabAB",), ("abAB", "abAB"), ("abAB" * 15,), ("aabbAB", "b"), ("aaaa", "bbb"), ("ab" * 30,),
+]
+MINIMAL = {
+    2: [
+        ("a",), ("B",), ("aa",), ("abAB",), ("aabb",), ("a", "b"), ("a", "A", "b", "B"), ("a" * 60,), ("abAB", "aabb"),
+        ("aabbAB",), ("aabaB",), ("abAB" * 15,), ("a" * 30, "b" * 30), ("aabb", "a", "b"),
+    ],
+    3: [
+        ("a",), ("c",), ("abAB",), ("abAB", "c"), ("aabbcc",), ("aabcBc",), ("a", "b", "c"), ("aabb", "cc"), ("bcBC",),
+        ("abAB", "acAC", "bcBC"), ("c" * 60,),
+    ],
+    4: [
+        ("a",), ("d",), ("abABcdCD",), ("abAB", "cdCD"), ("aabbccdd",), ("a", "b", "c", "d"), ("aa", "dd"), ("cdCD",),
+        ("abcdABCD",), ("d" * 60,), ("aabbccdd" * 7,),
     ],
 }
 
@@ -76,3 +98,29 @@ def automorphisms(rank):
     for pair in [("a", "a" * 99 + "b"), ("ab" * 49 + "a", "ab"), ("a", "a" * 50 + "b" + "A" * 49)]:
         found.append(pair + rest)
     return found
+
+
+def rows_of_all_kinds(rank, many=30):
+    return FEW_ROWS + MINIMAL[rank] + some_rows(rank, 16, many) + some_rows(rank, 60, 8)
+
+
+def minimal_rows(rank):
+    """Minimal rows: the ones above, and what rows become by moves that decrease their length."""
+    found = list(MINIMAL[rank])
+    for row in some_rows(rank, 14, 12):
+        while not is_minimal_row(rank, row):
+            row = min([plain_row(plain_substitution(rank, move), row) for move in all_moves(rank)], key=row_size)
+        found.append(row)
+    return found
+
+
+@lru_cache(maxsize=None)
+def some_way(seed, rank, row, longest, count=16):
+    """A route through rows of at most `longest` letters, and the row to which it takes the row."""
+    route = []
+    for step in some_route(seed, rank, count):
+        result = plain_row(plain_substitution(rank, step), row)
+        if row_size(result) <= longest:
+            route.append(step)
+            row = result
+    return tuple(route), row

@@ -9,47 +9,14 @@ from plain import (
 from reference import OPPOSITE, SETS
 from ringleast.errors import NotMinimal
 from ringleast.flows import certificate, check_certificate, least_cut, paths
-from samples import some_rows
+from samples import MINIMAL, minimal_rows, rows_of_all_kinds
 from wrong import nested_values
-
-ROWS = [
-    ("a",), ("B",), ("aa",), ("ab",), ("abAB",), ("aabb",), ("aab", "b"), ("a", "A", "b", "B"), ("a" * 60,),
-    ("aabAB",), ("abAB", "abAB"), ("abAB" * 15,), ("aabbAB", "b"), ("aaaa", "bbb"), ("ab" * 30,),
-]
-MINIMAL = {
-    2: [
-        ("a",), ("B",), ("aa",), ("abAB",), ("aabb",), ("a", "b"), ("a", "A", "b", "B"), ("a" * 60,), ("abAB", "aabb"),
-        ("aabbAB",), ("aabaB",), ("abAB" * 15,), ("a" * 30, "b" * 30), ("aabb", "a", "b"),
-    ],
-    3: [
-        ("a",), ("c",), ("abAB",), ("abAB", "c"), ("aabbcc",), ("aabcBc",), ("a", "b", "c"), ("aabb", "cc"), ("bcBC",),
-        ("abAB", "acAC", "bcBC"), ("c" * 60,),
-    ],
-    4: [
-        ("a",), ("d",), ("abABcdCD",), ("abAB", "cdCD"), ("aabbccdd",), ("a", "b", "c", "d"), ("aa", "dd"), ("cdCD",),
-        ("abcdABCD",), ("d" * 60,), ("aabbccdd" * 7,),
-    ],
-}
-
-
-def rows_of(rank, many=30):
-    return ROWS + MINIMAL[rank] + some_rows(rank, 16, many) + some_rows(rank, 60, 8)
-
-
-def minimal_rows(rank):
-    """Minimal rows: the ones above, and what rows become by moves that decrease their length."""
-    found = list(MINIMAL[rank])
-    for row in some_rows(rank, 14, 12):
-        while not is_minimal_row(rank, row):
-            row = min([plain_row(plain_substitution(rank, move), row) for move in all_moves(rank)], key=row_size)
-        found.append(row)
-    return found
 
 
 class LeastCut(unittest.TestCase):
     def test_against_all_letter_sets(self):
         for rank in RANKS:
-            for row in rows_of(rank):
+            for row in rows_of_all_kinds(rank):
                 for letter in SETS[rank]:
                     size, side = least_cut(rank, row, letter)
                     self.assertEqual(size, plain_least_cut(rank, row, letter), (row, letter))
@@ -72,7 +39,7 @@ class LeastCut(unittest.TestCase):
 
     def test_a_letter_and_its_inverse_have_the_same_size(self):
         for rank in RANKS:
-            for row in rows_of(rank):
+            for row in rows_of_all_kinds(rank):
                 for letter in BASE[rank]:
                     self.assertEqual(least_cut(rank, row, letter)[0], least_cut(rank, row, OPPOSITE[letter])[0])
 
@@ -94,7 +61,7 @@ class Paths(unittest.TestCase):
 
     def test_all_rows(self):
         for rank in RANKS:
-            for row in rows_of(rank, 120):
+            for row in rows_of_all_kinds(rank, 120):
                 for letter in SETS[rank]:
                     self.check(rank, row, letter)
 
@@ -107,7 +74,7 @@ class Paths(unittest.TestCase):
 
     def test_the_same_result_each_time(self):
         for rank in RANKS:
-            for row in rows_of(rank)[::4]:
+            for row in rows_of_all_kinds(rank)[::4]:
                 self.assertEqual(paths(rank, row, "b"), paths(rank, row, "b"))
 
 
@@ -133,7 +100,7 @@ class Certificate(unittest.TestCase):
     def test_other_rows(self):
         for rank in RANKS:
             count = 0
-            for row in rows_of(rank, 80):
+            for row in rows_of_all_kinds(rank, 80):
                 if is_minimal_row(rank, row):
                     self.assertIs(check_certificate(rank, row, certificate(rank, row)), True)
                     continue

@@ -8,9 +8,13 @@ import unittest
 from ringleast import errors
 from ringleast.flows import certificate, check_certificate, least_cut, paths
 from ringleast.graphs import change, components, cut, degree, edges
+from ringleast.levels import canonical, is_closed, level, neighbours
+from ringleast.minimal import is_minimal, least_length, reduce_row, shorten
 from ringleast.rings import is_ring, is_row, ring_of
+from ringleast.separation import check_primitive, check_separation, primitive, separate
 from ringleast.steps import factor, is_step, moves, step_row, substitution_of, total, undo_step, walk
 from ringleast.substitutions import apply, compose, image, is_automorphism, undo
+from ringleast.verdicts import check_verdict, equivalent
 from ringleast.words import inverse, is_word, letters, product, reduce_text
 
 PARAMETERS = {
@@ -56,6 +60,28 @@ PARAMETERS = {
         "certificate": ["rank", "row"],
         "check_certificate": ["rank", "row", "thing"],
     },
+    "minimal": {
+        "is_minimal": ["rank", "row"],
+        "shorten": ["rank", "row"],
+        "reduce_row": ["rank", "row"],
+        "least_length": ["rank", "row"],
+    },
+    "levels": {
+        "canonical": ["rank", "row"],
+        "neighbours": ["rank", "row"],
+        "level": ["rank", "row"],
+        "is_closed": ["rank", "thing"],
+    },
+    "verdicts": {
+        "equivalent": ["rank", "one", "other"],
+        "check_verdict": ["rank", "one", "other", "thing"],
+    },
+    "separation": {
+        "separate": ["rank", "row"],
+        "check_separation": ["rank", "row", "thing"],
+        "primitive": ["rank", "word"],
+        "check_primitive": ["rank", "word", "thing"],
+    },
 }
 
 EXAMPLES = [
@@ -96,6 +122,22 @@ EXAMPLES = [
     ("flows", 'certificate(2, ("ab",))', "raises NotMinimal"),
     ("flows", 'check_certificate(2, ("aa",), ((((0, 0),), ((0, 1),)), ()))', "True"),
     ("flows", 'check_certificate(2, ("aa",), ((((0, 0),), ((0, 0),)), ()))', "False"),
+    ("minimal", 'is_minimal(2, ("abAB",))', "True"),
+    ("minimal", 'shorten(2, ("abAB",))', "None"),
+    ("minimal", 'reduce_row(2, ("abAB",))', "((), ('abAB',))"),
+    ("minimal", 'least_length(2, ("aab",))', "1"),
+    ("levels", 'canonical(2, ("b",))[1]', "('a',)"),
+    ("levels", 'neighbours(2, ("aa",))', "(('aa',),)"),
+    ("levels", 'level(2, ("abAB",))', "(('abAB',),)"),
+    ("levels", 'level(4, ("a",))', "raises TooLarge(3)"),
+    ("levels", 'is_closed(2, (("a",),))', "True"),
+    ("verdicts", 'equivalent(2, ("a",), ("a", "b"))', "('different', 'count')"),
+    ("verdicts", 'check_verdict(2, ("ab",), ("b",), ("equivalent", (("move", "A", "Ab"),)))', "True"),
+    ("separation", 'separate(2, ("abAB",))[0]', "'connected'"),
+    ("separation", 'check_separation(2, ("a",), ("separable", (), ("a", "b")))', "True"),
+    ("separation", 'check_separation(2, ("ab",), ("separable", (), ("a", "b")))', "False"),
+    ("separation", 'primitive(2, "aabab")[0]', "'primitive'"),
+    ("separation", 'check_primitive(2, "ab", ("primitive", (("move", "A", "Ab"),)))', "True"),
 ]
 
 CALLS = [
@@ -129,6 +171,25 @@ CALLS = [
     (paths, {"rank": 2, "row": ("abAB",), "letter": "a"}, paths(2, ("abAB",), "a")),
     (certificate, {"rank": 2, "row": ("abAB",)}, certificate(2, ("abAB",))),
     (check_certificate, {"rank": 2, "row": ("aa",), "thing": ((((0, 0),), ((0, 1),)), ())}, True),
+    (is_minimal, {"rank": 2, "row": ("ab",)}, False),
+    (shorten, {"rank": 2, "row": ("ab",)}, shorten(2, ("ab",))),
+    (reduce_row, {"rank": 2, "row": ("aabab",)}, reduce_row(2, ("aabab",))),
+    (least_length, {"rank": 2, "row": ("aab",)}, 1),
+    (canonical, {"rank": 2, "row": ("b",)}, canonical(2, ("b",))),
+    (neighbours, {"rank": 2, "row": ("aabb",)}, (("aabb",), ("abaB",))),
+    (level, {"rank": 2, "row": ("abaB",)}, (("aabb",), ("abaB",))),
+    (is_closed, {"rank": 2, "thing": (("aabb",), ("abaB",))}, True),
+    (equivalent, {"rank": 2, "one": ("aabb",), "other": ("abaB",)}, equivalent(2, ("aabb",), ("abaB",))),
+    (check_verdict, {"rank": 2, "one": ("a",), "other": ("a", "b"), "thing": ("different", "count")}, True),
+    (separate, {"rank": 2, "row": ("aabab",)}, separate(2, ("aabab",))),
+    (check_separation, {"rank": 2, "row": ("a",), "thing": ("separable", (), ("a", "b"))}, True),
+    (primitive, {"rank": 2, "word": "aabab"}, primitive(2, "aabab")),
+    (check_primitive, {"rank": 2, "word": "bA", "thing": ("primitive", (("move", "a", "ab"),))}, True),
+]
+# Functions with a parameter `thing`, and what stands before it.
+THINGS = [
+    (is_word, ()), (is_ring, ()), (is_row, ()), (is_step, ()), (check_certificate, (("a",),)), (is_closed, ()),
+    (check_verdict, (("a",), ("b",))), (check_separation, (("a",),)), (check_primitive, ("a",)),
 ]
 
 
@@ -146,8 +207,11 @@ class Interface(unittest.TestCase):
             module = importlib.import_module("ringleast." + name)
             names = {function: getattr(module, function) for function in PARAMETERS[name]}
             if outcome.startswith("raises "):
-                with self.assertRaises(getattr(errors, outcome[len("raises "):])):
+                error, _, field = outcome[len("raises "):].rstrip(")").partition("(")
+                with self.assertRaises(getattr(errors, error)) as caught:
                     eval(call, names)
+                if field:
+                    self.assertEqual([repr(value) for value in vars(caught.exception).values()], [field])
             else:
                 self.assertEqual(repr(eval(call, names)), outcome, call)
 
@@ -167,13 +231,23 @@ class Interface(unittest.TestCase):
 
     def test_arguments_are_not_modified(self):
         things = [["ab", "a"], {"ab": ["a"]}, (["ab"],), [["a"], {"b": "c"}], ["move", "a", ["a"]], ([[[0, 0]]], [])]
+        things += [["equivalent", []], ("equivalent", [["relabel", "ba"]]), ("different", "level", [], [], [["a"]])]
+        things += [("separable", [], ["a", "b"]), ("connected", (), [[[(0, 0)]], []]), ("primitive", []), [["a"]]]
+        things += [("different", "length", (), [[], []], (), [[], []]), ("composite", [], [[], []])]
         for thing in things:
             before = copy.deepcopy(thing)
-            for function in (is_word, is_ring, is_row, is_step):
-                self.assertIs(function(2, thing), False)
+            for function, first in THINGS:
+                self.assertIs(function(2, *first, thing), False)
                 self.assertEqual(thing, before)
-            self.assertIs(check_certificate(2, ("a",), thing), False)
-            self.assertEqual(thing, before)
+                self.assertIs(function(rank=2, thing=thing, **dict(zip(self.names_before(function), first))), False)
+                self.assertEqual(thing, before)
+
+    def names_before(self, function):
+        return list(inspect.signature(function).parameters)[1:-1]
+
+    def test_all_functions_with_a_thing(self):
+        found = [name for functions in PARAMETERS.values() for name, names in functions.items() if "thing" in names]
+        self.assertEqual(sorted(found), sorted(function.__name__ for function, _ in THINGS))
 
     def test_all_functions_are_called_by_name(self):
         called = {function.__name__ for function, _, _ in CALLS}

@@ -5,11 +5,17 @@ from itertools import product
 
 from plain import BASE, RANKS
 from reference import bad_ranks, bad_words
-from ringleast.errors import BadLetter, BadRank, BadRow, BadStep, BadSubstitution, BadWord, TooLong
+from ringleast.errors import (
+    BadLetter, BadRank, BadRow, BadStep, BadSubstitution, BadWord, NotMinimal, TooLarge, TooLong,
+)
 from ringleast.flows import certificate, check_certificate, least_cut, paths
 from ringleast.graphs import change, components, cut, degree, edges
+from ringleast.levels import canonical, is_closed, level, neighbours
+from ringleast.minimal import is_minimal, least_length, reduce_row, shorten
+from ringleast.separation import check_primitive, check_separation, primitive, separate
 from ringleast.steps import factor, is_step, moves, step_row, substitution_of, total, undo_step, walk
 from ringleast.substitutions import apply, compose, image, is_automorphism, undo
+from ringleast.verdicts import check_verdict, equivalent
 from wrong import bad_letters, bad_rows, bad_sides, bad_steps, bad_substitutions, nested_values, not_routes
 
 SUBSTITUTIONS = ["substitution", "outer", "inner"]
@@ -36,14 +42,29 @@ FUNCTIONS = {
     paths: ["row", "letter"],
     certificate: ["row"],
     check_certificate: ["row", "thing"],
+    is_minimal: ["row"],
+    shorten: ["row"],
+    reduce_row: ["row"],
+    least_length: ["row"],
+    canonical: ["row"],
+    neighbours: ["row"],
+    level: ["row"],
+    is_closed: ["thing"],
+    equivalent: ["one", "other"],
+    check_verdict: ["one", "other", "thing"],
+    separate: ["row"],
+    check_separation: ["row", "thing"],
+    primitive: ["word"],
+    check_primitive: ["word", "thing"],
 }
 ERRORS = {
     "substitution": BadSubstitution, "outer": BadSubstitution, "inner": BadSubstitution, "word": BadWord, "row": BadRow,
-    "step": BadStep, "route": BadStep, "letter": BadLetter, "side": BadLetter,
+    "one": BadRow, "other": BadRow, "step": BadStep, "route": BadStep, "letter": BadLetter, "side": BadLetter,
 }
 # Valid values that lead to an error of their own, which comes after all parameters, come first in each list.
 LIMITS = {
     "word": ["ab" * 50, "a"], "row": [("ab" * 30,), ("a",)], "letter": ["b"], "side": ["", "ab"], "thing": [None, ()],
+    "one": [("ab" * 30,), ("a",)], "other": [("ab" * 30,), ("a", "a")],
     "step": [("move", "A", "AB")], "route": [[("move", "A", "AB")] * 500, ()],
 }
 
@@ -68,7 +89,8 @@ def wrong_values(rank, name):
         return wrong_routes(rank)
     if name == "step":
         return [(value, None) for value in bad_steps(rank)]
-    values = {"word": bad_words, "row": bad_rows, "letter": bad_letters, "side": bad_sides}.get(name, bad_substitutions)
+    rows = {"row": bad_rows, "one": bad_rows, "other": bad_rows}
+    values = {"word": bad_words, "letter": bad_letters, "side": bad_sides, **rows}.get(name, bad_substitutions)
     return [(value, "no field") for value in values(rank)]
 
 
@@ -101,12 +123,13 @@ class Parameters(unittest.TestCase):
                 continue
             for rank in RANKS:
                 first, second = wrong_values(rank, names[0]), wrong_values(rank, names[1])
+                more = (None,) * (len(names) - 2)
                 for k, (value, field) in enumerate(first):
                     for other, _ in (second[k % len(second)], second[0], second[-1]):
-                        self.check(function, rank, names, (value, other), ERRORS[names[0]], field)
+                        self.check(function, rank, names, (value, other) + more, ERRORS[names[0]], field)
                 for k, (other, _) in enumerate(second):
                     value, field = first[k % len(first)]
-                    self.check(function, rank, names, (value, other), ERRORS[names[0]], field)
+                    self.check(function, rank, names, (value, other) + more, ERRORS[names[0]], field)
 
     def test_a_wrong_rank_comes_first(self):
         for function, names in FUNCTIONS.items():
@@ -126,7 +149,8 @@ class Parameters(unittest.TestCase):
         for function, names in FUNCTIONS.items():
             values = {
                 "substitution": ("a", "b", "c"), "outer": ("a", "b", "c"), "inner": ("a", "b", "c"), "word": "c",
-                "row": ("c",), "step": ("move", "a", "ac"), "route": [("relabel", "cab")], "letter": "c", "side": "ac",
+                "row": ("c",), "one": ("c",), "other": ("c",), "step": ("move", "a", "ac"),
+                "route": [("relabel", "cab")], "letter": "c", "side": "ac",
             }
             for at, name in enumerate(names):
                 if name == "thing":
@@ -152,6 +176,18 @@ class Things(unittest.TestCase):
                 self.assertRaises(BadRow, check_certificate, rank, ["ab"], thing)
                 self.assertRaises(BadRank, check_certificate, rank + 3, ["ab"], thing)
 
+    def test_false_for_values_of_all_kinds(self):
+        before = {"row": ("abAB",), "one": ("ab",), "other": ("b",), "word": "ab"}
+        for function, names in FUNCTIONS.items():
+            if names[-1:] != ["thing"]:
+                continue
+            for rank in RANKS:
+                given = {name: before[name] for name in names[:-1]}
+                for thing in bad_steps(rank)[::2] + bad_substitutions(rank)[::5] + bad_rows(rank)[::2]:
+                    if thing != (("a",),):
+                        self.assertIs(function(rank, *given.values(), thing), False)
+                        self.assertIs(function(thing=thing, rank=rank, **given), False)
+
 
 class LimitsComeLast(unittest.TestCase):
     def test_too_long(self):
@@ -169,6 +205,21 @@ class LimitsComeLast(unittest.TestCase):
         self.assertRaises(BadStep, walk, 2, ("b" * 60,), [step, list(step)])
         self.assertRaises(TooLong, total, 2, [step] * 101)
         self.assertRaises(BadStep, total, 2, [step] * 101 + [list(step)])
+
+    def test_too_large_and_not_minimal(self):
+        long, short = ("a" * 60,), ("a",)
+        self.assertRaises(TooLarge, level, 3, long)
+        self.assertRaises(BadRow, level, 3, list(long))
+        self.assertRaises(TooLarge, level, 4, ("ab",))
+        self.assertRaises(BadRow, level, 4, ("ba",))
+        self.assertRaises(NotMinimal, level, 3, ("ab",))
+        self.assertRaises(TooLarge, equivalent, 4, short, short)
+        self.assertRaises(BadRow, equivalent, 4, short, "a")
+        self.assertRaises(BadRow, equivalent, 4, "a", short)
+        self.assertRaises(TooLarge, equivalent, 3, long, long)
+        self.assertRaises(BadRow, equivalent, 3, long, ("a" * 61,))
+        self.assertRaises(TooLong, primitive, 3, "a" * 61)
+        self.assertRaises(BadWord, primitive, 3, "a" * 61 + "A")
 
 
 if __name__ == "__main__":

@@ -4,7 +4,7 @@ import unittest
 
 from plain import (
     BASE, RANKS, all_moves, all_relabelings, all_steps, plain_compose, plain_identity, plain_row, plain_substitution,
-    plain_total, row_size,
+    plain_total, row_size, undone_route,
 )
 from reference import OPPOSITE, SETS, some_word
 from ringleast.errors import BadStep, NotInvertible, TooLong
@@ -12,20 +12,6 @@ from ringleast.rings import is_row
 from ringleast.steps import factor, is_step, moves, step_row, substitution_of, total, undo_step, walk
 from samples import NONE, automorphisms, conjugation, some_automorphism, some_route, some_row, some_rows
 from wrong import bad_moves, bad_relabelings, bad_steps, not_routes
-
-
-def undone_route(route):
-    """The steps that take everything back, from the words of the document for moves."""
-    back = []
-    for step in reversed(route):
-        if step[0] == "move":
-            back.append(("move", OPPOSITE[step[1]], step[2].replace(step[1], OPPOSITE[step[1]])))
-        else:
-            rank = len(step[1])
-            inverse = {OPPOSITE[y]: OPPOSITE[x] for x, y in zip(BASE[rank], step[1])}
-            inverse.update({y: x for x, y in zip(BASE[rank], step[1])})
-            back.append(("relabel", "".join(inverse[x] for x in BASE[rank])))
-    return tuple(back)
 
 
 # All ends of STEEP have at most 46 letters in an image. Its inverse takes c to a word of 496 letters.
