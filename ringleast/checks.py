@@ -6,6 +6,11 @@ from ringleast.rings import is_row
 from ringleast.words import is_word, letters
 
 
+def is_integer_value(thing):
+    """Tells whether `thing` is an integer. True and False are not."""
+    return isinstance(thing, int) and not isinstance(thing, bool)
+
+
 def is_letter(rank, thing):
     """Tells whether `thing` is a letter of the rank."""
     return isinstance(thing, str) and len(thing) == 1 and thing in letters(rank)

@@ -4,85 +4,24 @@ import copy
 import importlib
 import inspect
 import unittest
+from itertools import permutations
 
+from interface import PARAMETERS
 from ringleast import errors
+from ringleast.census import least_rings, orbits
 from ringleast.flows import certificate, check_certificate, least_cut, paths
 from ringleast.graphs import change, components, cut, degree, edges
 from ringleast.levels import canonical, is_closed, level, neighbours
 from ringleast.minimal import is_minimal, least_length, reduce_row, shorten
+from ringleast.rank_two import pair_ring, sign
 from ringleast.rings import is_ring, is_row, ring_of
 from ringleast.separation import check_primitive, check_separation, primitive, separate
+from ringleast.shadows import carried, determinant, exponents, matrix, trace, value
 from ringleast.steps import factor, is_step, moves, step_row, substitution_of, total, undo_step, walk
 from ringleast.substitutions import apply, compose, image, is_automorphism, undo
+from ringleast.texts import route_in, route_text, row_in, row_text, substitution_in, substitution_text
 from ringleast.verdicts import check_verdict, equivalent
 from ringleast.words import inverse, is_word, letters, product, reduce_text
-
-PARAMETERS = {
-    "words": {
-        "letters": ["rank"],
-        "is_word": ["rank", "thing"],
-        "inverse": ["rank", "word"],
-        "reduce_text": ["rank", "text"],
-        "product": ["rank", "one", "other"],
-    },
-    "rings": {
-        "is_ring": ["rank", "thing"],
-        "is_row": ["rank", "thing"],
-        "ring_of": ["rank", "word"],
-    },
-    "substitutions": {
-        "image": ["rank", "substitution", "word"],
-        "compose": ["rank", "outer", "inner"],
-        "is_automorphism": ["rank", "substitution"],
-        "undo": ["rank", "substitution"],
-        "apply": ["rank", "substitution", "row"],
-    },
-    "steps": {
-        "is_step": ["rank", "thing"],
-        "moves": ["rank"],
-        "undo_step": ["rank", "step"],
-        "substitution_of": ["rank", "step"],
-        "total": ["rank", "route"],
-        "step_row": ["rank", "row", "step"],
-        "walk": ["rank", "row", "route"],
-        "factor": ["rank", "substitution"],
-    },
-    "graphs": {
-        "edges": ["rank", "row"],
-        "degree": ["rank", "row", "letter"],
-        "cut": ["rank", "row", "side"],
-        "change": ["rank", "row", "step"],
-        "components": ["rank", "row"],
-    },
-    "flows": {
-        "least_cut": ["rank", "row", "letter"],
-        "paths": ["rank", "row", "letter"],
-        "certificate": ["rank", "row"],
-        "check_certificate": ["rank", "row", "thing"],
-    },
-    "minimal": {
-        "is_minimal": ["rank", "row"],
-        "shorten": ["rank", "row"],
-        "reduce_row": ["rank", "row"],
-        "least_length": ["rank", "row"],
-    },
-    "levels": {
-        "canonical": ["rank", "row"],
-        "neighbours": ["rank", "row"],
-        "level": ["rank", "row"],
-        "is_closed": ["rank", "thing"],
-    },
-    "verdicts": {
-        "equivalent": ["rank", "one", "other"],
-        "check_verdict": ["rank", "one", "other", "thing"],
-    },
-    "separation": {
-        "separate": ["rank", "row"],
-        "check_separation": ["rank", "row", "thing"],
-        "primitive": ["rank", "word"],
-        "check_primitive": ["rank", "word", "thing"],
-    },
-}
 
 EXAMPLES = [
     ("words", 'letters(2)', "'aAbB'"),
@@ -138,6 +77,25 @@ EXAMPLES = [
     ("separation", 'check_separation(2, ("ab",), ("separable", (), ("a", "b")))', "False"),
     ("separation", 'primitive(2, "aabab")[0]', "'primitive'"),
     ("separation", 'check_primitive(2, "ab", ("primitive", (("move", "A", "Ab"),)))', "True"),
+    ("shadows", 'exponents(2, "abAb")', "(0, 2)"),
+    ("shadows", 'matrix(2, ("ab", "b"))', "((1, 1), (0, 1))"),
+    ("shadows", 'determinant(2, ("aab", "b"))', "2"),
+    ("shadows", 'value(2, (((1, 1), (0, 1)), ((1, 0), (1, 1))), "ab")', "((2, 1), (1, 1))"),
+    ("shadows", 'trace(2, (((1, 1), (0, 1)), ((1, 0), (1, 1))), "ab")', "3"),
+    (
+        "shadows", 'carried(2, (((1, 1), (0, 1)), ((1, 0), (1, 1))), ("ab", "b"))',
+        "(((2, 1), (1, 1)), ((1, 0), (1, 1)))",
+    ),
+    ("rank_two", 'pair_ring((2, 1))', "'aab'"),
+    ("rank_two", 'sign(("ab", "b"))', "1"),
+    ("census", 'least_rings(2, 2)', "('aa',)"),
+    ("census", 'orbits(2, 2)', "((('aa',),),)"),
+    ("texts", 'row_text(2, ("ab", "a"))', "'ab a'"),
+    ("texts", 'substitution_text(2, ("ab", ""))', r"'a = ab\nb = 1'"),
+    ("texts", 'route_text(2, (("move", "a", "ab"), ("relabel", "ba")))', r"'move a ab\nrelabel ba'"),
+    ("texts", 'row_in(2, "ab a")', "('ab', 'a')"),
+    ("texts", 'substitution_in(2, "a = ab")', "raises BadText(2)"),
+    ("texts", 'route_in(2, "")', "()"),
 ]
 
 CALLS = [
@@ -185,6 +143,25 @@ CALLS = [
     (check_separation, {"rank": 2, "row": ("a",), "thing": ("separable", (), ("a", "b"))}, True),
     (primitive, {"rank": 2, "word": "aabab"}, primitive(2, "aabab")),
     (check_primitive, {"rank": 2, "word": "bA", "thing": ("primitive", (("move", "a", "ab"),))}, True),
+    (exponents, {"rank": 3, "word": "abAbC"}, (0, 2, -1)),
+    (matrix, {"rank": 2, "substitution": ("aB", "b")}, ((1, -1), (0, 1))),
+    (determinant, {"rank": 2, "substitution": ("aab", "B")}, -2),
+    (value, {"rank": 2, "tables": (((1, 1), (0, 1)), ((1, 0), (1, 1))), "word": "ba"}, ((1, 1), (1, 2))),
+    (trace, {"rank": 2, "tables": (((1, 1), (0, 1)), ((1, 0), (1, 1))), "word": "bA"}, 1),
+    (
+        carried, {"rank": 2, "tables": (((1, 1), (0, 1)), ((1, 0), (1, 1))), "substitution": ("B", "")},
+        (((1, 0), (-1, 1)), ((1, 0), (0, 1))),
+    ),
+    (pair_ring, {"pair": (-2, 1)}, "AAb"),
+    (sign, {"substitution": ("b", "a")}, -1),
+    (least_rings, {"rank": 2, "size": 4}, ("aaaa", "aabb", "abaB", "abAB")),
+    (orbits, {"rank": 3, "size": 4}, ((("aaaa",),), (("aabb",), ("abaB",)), (("abAB",),))),
+    (row_text, {"rank": 2, "row": ("ab", "a", "B")}, "ab a B"),
+    (substitution_text, {"rank": 3, "substitution": ("", "cb", "c")}, "a = 1\nb = cb\nc = c"),
+    (route_text, {"rank": 2, "route": [("relabel", "bA"), ("move", "B", "AB")]}, "relabel bA\nmove B AB"),
+    (row_in, {"rank": 2, "text": "ab a B"}, ("ab", "a", "B")),
+    (substitution_in, {"rank": 3, "text": "a = 1\nb = cb\nc = c"}, ("", "cb", "c")),
+    (route_in, {"rank": 2, "text": "relabel bA\nmove B AB"}, (("relabel", "bA"), ("move", "B", "AB"))),
 ]
 # Functions with a parameter `thing`, and what stands before it.
 THINGS = [
@@ -218,9 +195,9 @@ class Interface(unittest.TestCase):
     def test_by_position_and_by_name(self):
         for function, arguments, outcome in CALLS:
             self.assertEqual(function(*arguments.values()), outcome)
-            self.assertEqual(function(**arguments), outcome)
-            backwards = {name: arguments[name] for name in reversed(list(arguments))}
-            self.assertEqual(function(**backwards), outcome)
+            for names in permutations(arguments):
+                self.assertEqual(function(**{name: arguments[name] for name in names}), outcome)
+            self.assertEqual(list(arguments), list(inspect.signature(function).parameters))
 
     def test_the_same_call_gives_the_same_result(self):
         for _ in range(3):
@@ -229,7 +206,20 @@ class Interface(unittest.TestCase):
                 self.assertEqual(again, outcome)
                 self.assertIs(type(again), type(outcome))
 
-    def test_arguments_are_not_modified(self):
+    def test_arguments_of_calls_are_not_modified(self):
+        for function, arguments, outcome in CALLS:
+            before = copy.deepcopy(arguments)
+            made = function(**arguments)
+            self.assertEqual(arguments, before)
+            if isinstance(made, list):
+                made.clear()
+                self.assertEqual(function(**arguments), outcome)
+        route = [("move", "a", "ab"), ["move"]]
+        for function in (total, route_text):
+            self.assertRaises(errors.BadStep, function, 2, route)
+            self.assertEqual(route, [("move", "a", "ab"), ["move"]])
+
+    def test_things_are_not_modified(self):
         things = [["ab", "a"], {"ab": ["a"]}, (["ab"],), [["a"], {"b": "c"}], ["move", "a", ["a"]], ([[[0, 0]]], [])]
         things += [["equivalent", []], ("equivalent", [["relabel", "ba"]]), ("different", "level", [], [], [["a"]])]
         things += [("separable", [], ["a", "b"]), ("connected", (), [[[(0, 0)]], []]), ("primitive", []), [["a"]]]

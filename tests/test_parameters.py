@@ -1,78 +1,61 @@
 """Point 31: for each function, several invalid values at once. The error is the one of the first invalid parameter."""
 
+import importlib
 import unittest
-from itertools import product
 
-from plain import BASE, RANKS
-from reference import bad_ranks, bad_words
+from interface import PARAMETERS
+from plain import BASE, RANKS, plain_identity
+from reference import bad_ranks, bad_words, not_strings, texts_beyond
+from ringleast.census import least_rings, orbits
 from ringleast.errors import (
-    BadLetter, BadRank, BadRow, BadStep, BadSubstitution, BadWord, NotMinimal, TooLarge, TooLong,
+    BadLetter, BadPair, BadRank, BadRow, BadSize, BadStep, BadSubstitution, BadTables, BadText, BadWord, NotMinimal,
+    TooLarge, TooLong,
 )
-from ringleast.flows import certificate, check_certificate, least_cut, paths
-from ringleast.graphs import change, components, cut, degree, edges
-from ringleast.levels import canonical, is_closed, level, neighbours
-from ringleast.minimal import is_minimal, least_length, reduce_row, shorten
-from ringleast.separation import check_primitive, check_separation, primitive, separate
-from ringleast.steps import factor, is_step, moves, step_row, substitution_of, total, undo_step, walk
-from ringleast.substitutions import apply, compose, image, is_automorphism, undo
-from ringleast.verdicts import check_verdict, equivalent
-from wrong import bad_letters, bad_rows, bad_sides, bad_steps, bad_substitutions, nested_values, not_routes
+from ringleast.flows import check_certificate
+from ringleast.levels import level
+from ringleast.rings import is_ring, is_row
+from ringleast.separation import primitive
+from ringleast.steps import is_step, step_row, total, walk
+from ringleast.substitutions import apply, compose, image
+from ringleast.verdicts import equivalent
+from ringleast.words import is_word
+from wrong import (
+    bad_letters, bad_pairs, bad_rows, bad_sides, bad_sizes, bad_steps, bad_substitutions, bad_tables, nested_values,
+    not_routes,
+)
 
-SUBSTITUTIONS = ["substitution", "outer", "inner"]
-FUNCTIONS = {
-    image: ["substitution", "word"],
-    compose: ["outer", "inner"],
-    is_automorphism: ["substitution"],
-    undo: ["substitution"],
-    apply: ["substitution", "row"],
-    is_step: ["thing"],
-    moves: [],
-    undo_step: ["step"],
-    substitution_of: ["step"],
-    total: ["route"],
-    step_row: ["row", "step"],
-    walk: ["row", "route"],
-    factor: ["substitution"],
-    edges: ["row"],
-    degree: ["row", "letter"],
-    cut: ["row", "side"],
-    change: ["row", "step"],
-    components: ["row"],
-    least_cut: ["row", "letter"],
-    paths: ["row", "letter"],
-    certificate: ["row"],
-    check_certificate: ["row", "thing"],
-    is_minimal: ["row"],
-    shorten: ["row"],
-    reduce_row: ["row"],
-    least_length: ["row"],
-    canonical: ["row"],
-    neighbours: ["row"],
-    level: ["row"],
-    is_closed: ["thing"],
-    equivalent: ["one", "other"],
-    check_verdict: ["one", "other", "thing"],
-    separate: ["row"],
-    check_separation: ["row", "thing"],
-    primitive: ["word"],
-    check_primitive: ["word", "thing"],
+# What a parameter takes if its name does not tell.
+KINDS = {
+    ("product", "one"): "word", ("product", "other"): "word", ("reduce_text", "text"): "letters",
+    ("equivalent", "one"): "row", ("equivalent", "other"): "row", ("check_verdict", "one"): "row",
+    ("check_verdict", "other"): "row", ("compose", "outer"): "substitution", ("compose", "inner"): "substitution",
 }
 ERRORS = {
-    "substitution": BadSubstitution, "outer": BadSubstitution, "inner": BadSubstitution, "word": BadWord, "row": BadRow,
-    "one": BadRow, "other": BadRow, "step": BadStep, "route": BadStep, "letter": BadLetter, "side": BadLetter,
+    "rank": BadRank, "word": BadWord, "letters": BadWord, "row": BadRow, "substitution": BadSubstitution,
+    "step": BadStep, "route": BadStep, "letter": BadLetter, "side": BadLetter, "tables": BadTables, "pair": BadPair,
+    "size": BadSize, "text": BadText,
 }
-# Valid values that lead to an error of their own, which comes after all parameters, come first in each list.
-LIMITS = {
-    "word": ["ab" * 50, "a"], "row": [("ab" * 30,), ("a",)], "letter": ["b"], "side": ["", "ab"], "thing": [None, ()],
-    "one": [("ab" * 30,), ("a",)], "other": [("ab" * 30,), ("a", "a")],
-    "step": [("move", "A", "AB")], "route": [[("move", "A", "AB")] * 500, ()],
-}
+FIELDS = {BadStep: "index", BadText: "line"}
 
 
-def good_values(rank, name):
-    if name in SUBSTITUTIONS:
-        return [("a" * 100, "b" * 100, "c", "d")[:rank], tuple(BASE[rank])]
-    return LIMITS[name]
+def good_values(rank, kind):
+    """Two valid values. The first one leads to an error of its own in some functions, behind all parameters."""
+    return {
+        "rank": [rank, rank],
+        "word": ["ab" * 50, "a"],
+        "letters": ["ab" * 200, "aA"],
+        "row": [("ab" * 30,), ("a", "b")],
+        "substitution": [("a" * 100, "b" * 100, "c", "d")[:rank], plain_identity(rank)],
+        "step": [("move", "A", "AB"), ("relabel", BASE[rank])],
+        "route": [[("move", "A", "AB")] * 500, ()],
+        "letter": ["b", "A"],
+        "side": ["", "ab"],
+        "tables": [(((1, 1), (0, 1)),) * rank, (((0, -1), (1, 0)),) * rank],
+        "pair": [(1, 0), (2, -3)],
+        "size": [100, 1],
+        "text": ["", "x"],
+        "thing": [None, ()],
+    }[kind]
 
 
 def wrong_routes(rank):
@@ -83,83 +66,106 @@ def wrong_routes(rank):
     return found
 
 
-def wrong_values(rank, name):
-    """Invalid values for a parameter, each with the field of its error, or with "no field"."""
-    if name == "route":
+def wrong_values(rank, kind):
+    """Invalid values for a parameter, each with the field of its error."""
+    if kind == "route":
         return wrong_routes(rank)
-    if name == "step":
+    if kind == "step":
         return [(value, None) for value in bad_steps(rank)]
-    rows = {"row": bad_rows, "one": bad_rows, "other": bad_rows}
-    values = {"word": bad_words, "letter": bad_letters, "side": bad_sides, **rows}.get(name, bad_substitutions)
-    return [(value, "no field") for value in values(rank)]
+    if kind == "text":
+        return [(value, 0) for value in not_strings()]
+    found = {
+        "rank": lambda: bad_ranks(),
+        "word": lambda: bad_words(rank),
+        "letters": lambda: not_strings() + texts_beyond(rank),
+        "row": lambda: bad_rows(rank),
+        "substitution": lambda: bad_substitutions(rank),
+        "letter": lambda: bad_letters(rank),
+        "side": lambda: bad_sides(rank),
+        "tables": lambda: bad_tables(rank),
+        "pair": lambda: bad_pairs(),
+        "size": lambda: bad_sizes(),
+        "thing": lambda: nested_values(),
+    }[kind]()
+    return [(value, None) for value in found]
+
+
+def all_functions():
+    """All functions of the interface, each with the names of its parameters and what they take."""
+    found = []
+    for file, functions in PARAMETERS.items():
+        module = importlib.import_module("ringleast." + file)
+        for name, names in functions.items():
+            found.append((getattr(module, name), names, [KINDS.get((name, each), each) for each in names]))
+    return found
 
 
 class Parameters(unittest.TestCase):
-    def check(self, function, rank, names, values, error, field):
-        calls = [((rank,) + values, {}), ((), dict(zip(["rank"] + names, (rank,) + values)))]
+    @classmethod
+    def setUpClass(cls):
+        kinds = list(ERRORS) + ["thing"]
+        cls.wrong = {(rank, kind): wrong_values(rank, kind) for rank in RANKS for kind in kinds}
+
+    def check(self, function, names, values, error, field):
+        calls = [(values, {}), ((), dict(zip(names[::-1], values[::-1])))]
         for arguments, keywords in calls:
             with self.assertRaises(ValueError) as caught:
                 function(*arguments, **keywords)
             self.assertIs(type(caught.exception), error, (function.__name__, values))
-            if field != "no field":
-                self.assertIs(type(caught.exception.index), type(field))
-                self.assertEqual(caught.exception.index, field)
+            if error in FIELDS:
+                made = getattr(caught.exception, FIELDS[error])
+                self.assertIs(type(made), type(field))
+                self.assertEqual(made, field, (function.__name__, values))
+
+    def cases(self):
+        """(function, names, kinds, rank, position) for each parameter that can be invalid."""
+        for function, names, kinds in all_functions():
+            for rank in RANKS if "rank" in names else (2,):
+                for at, kind in enumerate(kinds):
+                    if kind != "thing" and (kind != "rank" or rank == 2):
+                        yield function, names, kinds, rank, at
 
     def test_one_wrong_value(self):
-        for function, names in FUNCTIONS.items():
-            for rank in RANKS:
-                for at, name in enumerate(names):
-                    if name == "thing":
-                        continue
-                    others = [good_values(rank, other)[:2] for other in names]
-                    for value, field in wrong_values(rank, name):
-                        for chosen in list(product(*others))[:2]:
-                            values = chosen[:at] + (value,) + chosen[at + 1:]
-                            self.check(function, rank, names, values, ERRORS[name], field)
+        for function, names, kinds, rank, at in self.cases():
+            for value, field in self.wrong[rank, kinds[at]]:
+                for k in (0, 1):
+                    values = [good_values(rank, kind)[k] for kind in kinds]
+                    values[at] = value
+                    self.check(function, names, tuple(values), ERRORS[kinds[at]], field)
 
-    def test_two_wrong_values(self):
-        for function, names in FUNCTIONS.items():
-            if len(names) < 2 or names[1] == "thing":
-                continue
-            for rank in RANKS:
-                first, second = wrong_values(rank, names[0]), wrong_values(rank, names[1])
-                more = (None,) * (len(names) - 2)
-                for k, (value, field) in enumerate(first):
-                    for other, _ in (second[k % len(second)], second[0], second[-1]):
-                        self.check(function, rank, names, (value, other) + more, ERRORS[names[0]], field)
-                for k, (other, _) in enumerate(second):
-                    value, field = first[k % len(first)]
-                    self.check(function, rank, names, (value, other) + more, ERRORS[names[0]], field)
+    def test_several_wrong_values(self):
+        for function, names, kinds, rank, at in self.cases():
+            later = range(at + 1, len(kinds))
+            for k, (value, field) in enumerate(self.wrong[rank, kinds[at]]):
+                for chosen in [later, later[:1], later[-1:]]:
+                    values = [good_values(rank, kind)[k % 2] for kind in kinds]
+                    values[at] = value
+                    for other in chosen:
+                        wrong = self.wrong[rank, kinds[other]]
+                        values[other] = wrong[(7 * k + other) % len(wrong)][0]
+                    self.check(function, names, tuple(values), ERRORS[kinds[at]], field)
 
-    def test_a_wrong_rank_comes_first(self):
-        for function, names in FUNCTIONS.items():
-            for rank in bad_ranks():
-                good = tuple(good_values(2, name)[0] for name in names)
-                self.check(function, rank, names, good, BadRank, "no field")
-                for k in range(0, 60, 7):
-                    wrong = []
-                    for name in names:
-                        values = [(value, None) for value in nested_values()]
-                        if name != "thing":
-                            values = wrong_values(2, name)
-                        wrong.append(values[k % len(values)][0])
-                    self.check(function, rank, names, tuple(wrong), BadRank, "no field")
+    def test_all_wrong_values_behind_a_wrong_value(self):
+        for function, names, kinds, rank, at in self.cases():
+            first = self.wrong[rank, kinds[at]]
+            for other in range(at + 1, len(kinds)):
+                for k, (wrong, _) in enumerate(self.wrong[rank, kinds[other]]):
+                    values = [good_values(rank, kind)[k % 2] for kind in kinds]
+                    value, field = first[(5 * k) % len(first)]
+                    values[at], values[other] = value, wrong
+                    self.check(function, names, tuple(values), ERRORS[kinds[at]], field)
 
     def test_values_of_a_higher_rank(self):
-        for function, names in FUNCTIONS.items():
-            values = {
-                "substitution": ("a", "b", "c"), "outer": ("a", "b", "c"), "inner": ("a", "b", "c"), "word": "c",
-                "row": ("c",), "one": ("c",), "other": ("c",), "step": ("move", "a", "ac"),
-                "route": [("relabel", "cab")], "letter": "c", "side": "ac",
-            }
-            for at, name in enumerate(names):
-                if name == "thing":
-                    continue
-                given = tuple(good_values(2, other)[-1] for other in names[:at]) + tuple(
-                    values.get(other) for other in names[at:]
-                )
-                field = {"step": None, "route": 0}.get(name, "no field")
-                self.check(function, 2, names, given, ERRORS[name], field)
+        higher = {
+            "word": "c", "letters": "c", "row": ("c",), "substitution": ("a", "b", "c"), "step": ("move", "a", "ac"),
+            "route": [("relabel", "cab")], "letter": "c", "side": "ac", "tables": (((1, 0), (0, 1)),) * 3,
+        }
+        for function, names, kinds in all_functions():
+            for at, kind in enumerate(kinds):
+                if kind in higher:
+                    values = [good_values(2, other)[1] for other in kinds[:at]]
+                    values += [higher.get(other, good_values(2, other)[1]) for other in kinds[at:]]
+                    self.check(function, names, tuple(values), ERRORS[kind], 0 if kind == "route" else None)
 
 
 class Things(unittest.TestCase):
@@ -177,13 +183,15 @@ class Things(unittest.TestCase):
                 self.assertRaises(BadRank, check_certificate, rank + 3, ["ab"], thing)
 
     def test_false_for_values_of_all_kinds(self):
-        before = {"row": ("abAB",), "one": ("ab",), "other": ("b",), "word": "ab"}
-        for function, names in FUNCTIONS.items():
-            if names[-1:] != ["thing"]:
+        before = {"row": ("abAB",), "word": "ab"}
+        for function, names, kinds in all_functions():
+            # The values below are valid words, rings and rows in part.
+            if names[-1:] != ["thing"] or function in (is_word, is_ring, is_row):
                 continue
             for rank in RANKS:
-                given = {name: before[name] for name in names[:-1]}
-                for thing in bad_steps(rank)[::2] + bad_substitutions(rank)[::5] + bad_rows(rank)[::2]:
+                given = {name: before[kind] for name, kind in zip(names[1:-1], kinds[1:-1])}
+                things = bad_steps(rank)[::2] + bad_substitutions(rank)[::5] + bad_rows(rank)[::2]
+                for thing in things + bad_tables(rank)[::2]:
                     if thing != (("a",),):
                         self.assertIs(function(rank, *given.values(), thing), False)
                         self.assertIs(function(thing=thing, rank=rank, **given), False)
@@ -220,6 +228,13 @@ class LimitsComeLast(unittest.TestCase):
         self.assertRaises(BadRow, equivalent, 3, long, ("a" * 61,))
         self.assertRaises(TooLong, primitive, 3, "a" * 61)
         self.assertRaises(BadWord, primitive, 3, "a" * 61 + "A")
+
+    def test_sizes(self):
+        for function in (least_rings, orbits):
+            self.assertRaises(TooLarge, function, 4, 1)
+            self.assertRaises(BadSize, function, 4, 0)
+            self.assertRaises(TooLarge, function, 2, 7)
+            self.assertRaises(BadRank, function, 5, 7)
 
 
 if __name__ == "__main__":

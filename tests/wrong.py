@@ -76,3 +76,39 @@ def bad_steps(rank):
 def not_routes():
     """Values that are neither tuples nor lists."""
     return [value for value in not_strings() if not isinstance(value, (tuple, list))] + ["", "move a ab", "ab", b"ab"]
+
+
+def bad_tables(rank):
+    one = ((1, 0), (0, 1))
+    good = (one,) * rank
+    tables = [
+        ((1, 0), (0, -1)), ((0, 1), (1, 0)), ((2, 0), (0, 1)), ((1, 2), (3, 4)), ((0, 0), (0, 0)), ((-1, 0), (0, 1)),
+        ((10 ** 40, 1), (1, 1)), ((2, 1), (3, 1)),
+        ((True, 0), (0, 1)), ((1, False), (0, 1)), ((1, 0), (False, 1)), ((1, 0), (0, True)),
+        ((True, False), (False, True)), ((1.0, 0), (0, 1)), ((1, 0), (0, 1.0)), ((1, None), (0, 1)),
+        (("1", 0), (0, 1)), ((1, 0), (0, "1")), ((1, ()), ((), 1)), [[1, 0], [0, 1]], [(1, 0), (0, 1)],
+        ([1, 0], [0, 1]), ((1, 0), [0, 1]), ([1, 0], (0, 1)), (1, 0, 0, 1), ((1, 0, 0, 1),), ((1, 0),),
+        ((1, 0), (0, 1), ()), ((1, 0, 0), (0, 1, 0)), ((1,), (0, 1)), ((1, 0), (0,)), ((1, 0), (0, 1), (0, 0)),
+        ((1, 0), 0, 1), ((1, 0), "01"), ("10", "01"), {(1, 0): (0, 1)}, (one, one), (one,), 1, None, "", "aA", (),
+        ((), ()),
+    ]
+    found = [good[:-1], good + (one,), list(good), one, (), {one: one}, dict(enumerate(good)), (good,), good[0][0]]
+    for table in tables:
+        found += [good[:k] + (table,) + good[k + 1:] for k in (0, rank - 1)]
+    return found + nested_values()
+
+
+def bad_pairs():
+    found = [
+        (0, 0), (2, 0), (0, 2), (-2, 0), (0, -3), (2, 2), (2, -2), (4, 6), (-4, 6), (15, 45), (30, -30), (6, 33),
+        (60, 0), (60, 1), (1, 60), (-60, 1), (1, -60), (-1, -60), (31, 30), (30, -31), (61, 0), (0, -61),
+        (10 ** 40, 1), (1, 10 ** 900), (True, 0), (0, True), (True, 1), (1, False), (False, True), (1.0, 0), (1, 0.0),
+        (1, None), (None, 1), ("1", 0), (1, "0"), ((1,), 0), (1, ()), [1, 0], [2, 1], (1,), (1, 0, 0), (2, 1, 1),
+        ((2, 1),), {2: 1}, {2, 1}, "21", "ab", b"ab", 21, 1,
+    ]
+    return found + nested_values()
+
+
+def bad_sizes():
+    found = [0, -1, -6, -10 ** 40, True, False, None, 1.0, 2.5, "1", "", "a", b"1", [], [1], (1,), (), {1}, {1: 1}, int]
+    return found + [value for value in nested_values() if type(value) is not int]
